@@ -1,0 +1,1 @@
+"""Heldranks: machines of lesser and greater, and which values they must hold."""
