@@ -1,0 +1,53 @@
+"""Checks of parameters that several files have: machines, letters and histories."""
+
+from heldranks.errors import InvalidHistory, InvalidMachine, UnknownLetter
+from heldranks.machines import Machine
+from heldranks.values import is_end, is_list, is_name, is_value
+
+
+def check_machine(machine):
+    """Raise InvalidMachine for any value that is no Machine."""
+    if not isinstance(machine, Machine):
+        raise InvalidMachine(machine)
+
+
+def check_letter(machine, letter):
+    """Raise UnknownLetter for any value that is no letter of a machine."""
+    if letter not in machine.letters:
+        raise UnknownLetter(letter)
+
+
+def check_history(machine, history):
+    """Raise InvalidHistory unless history is a list of ticks of a machine."""
+    check_ticks(machine, history, is_value)
+
+
+def check_end_history(machine, history):
+    """Raise InvalidHistory unless history is a list of ticks of a machine whose values are ENDS."""
+    check_ticks(machine, history, is_end)
+
+
+def check_ticks(machine, history, is_right):
+    """Raise InvalidHistory unless history is a list of ticks of a machine whose values all are right."""
+    if not is_list(history):
+        raise InvalidHistory(None)
+    letters = machine.letters
+    for position, tick in enumerate(history):
+        if not _has_parts(tick, is_right) or tick[0] not in letters or len(tick[1]) != machine.inputs:
+            raise InvalidHistory(position)
+
+
+def check_any_ticks(history):
+    """Raise InvalidHistory unless history is a list of tuples of a NAME and a tuple of VALUES."""
+    if not is_list(history):
+        raise InvalidHistory(None)
+    for position, tick in enumerate(history):
+        if not _has_parts(tick, is_value) or not is_name(tick[0]):
+            raise InvalidHistory(position)
+
+
+def _has_parts(tick, is_right):
+    """Tell whether any value is a tuple of something and a tuple of values that all are right."""
+    if not isinstance(tick, tuple) or len(tick) != 2 or not isinstance(tick[1], tuple):
+        return False
+    return all([is_right(value) for value in tick[1]])

@@ -1,0 +1,95 @@
+"""The interface: where its names are defined, which parameters they have, and what an object keeps apart."""
+
+import ast
+import importlib
+import inspect
+import os
+import unittest
+
+FOLDER = os.path.join(os.path.dirname(os.path.dirname(os.path.abspath(__file__))), "heldranks")
+OF_TERMS = ["depth", "at", "places", "turned", "put", "__and__", "__or__", "__str__", "__repr__", "__eq__"]
+FUNCTIONS = {
+    "values": {"is_value": "value", "is_at_least": "one other", "lesser_of": "*values", "greater_of": "*values",
+               "at_level": "value level", "levels_of": "values"},
+    "terms": {"kth": "many *terms"},
+    "machines": {},
+    "forms": {"form_of": "term", "covers_of": "term", "term_of": "form", "value_by": "form values",
+              "is_same": "one other", "is_never_above": "one other", "showing": "one other"},
+    "runs": {"outputs_of": "machine history", "each_output": "machine history", "state_after": "machine history",
+             "history_at": "history level"},
+    "makers": {"line": "many", "pile": "many", "ranked": "many", "best": "many", "recent": "many kth", "record": ""},
+    "ends": {"moves": "machine", "end_states": "machine", "end_step": "machine state letter ends"},
+    "prices": {"worth": "machine prices most history", "end_worth": "machine prices history"}}
+CLASSES = {
+    "terms": {"Term": OF_TERMS, "Place": OF_TERMS + ["__init__", "name"], "End": OF_TERMS + ["__init__", "end"],
+              "Lesser": OF_TERMS + ["__init__", "parts"], "Greater": OF_TERMS + ["__init__", "parts"]},
+    "machines": {"Row": ["__init__", "mode", "registers", "outputs", "__eq__"],
+                 "Machine": ["__init__", "MOST_MODES", "MOST_LETTERS", "MOST_REGISTERS", "MOST_INPUTS", "MOST_OUTPUTS",
+                             "modes", "letters", "registers", "inputs", "outputs", "first", "begin", "row_at",
+                             "rows"]},
+    "runs": {"State": ["mode", "registers", "levels", "at_level", "__eq__"],
+             "Run": ["__init__", "do", "do_all", "undo", "machine", "state", "ticks", "history", "copy", "tried"]},
+    "prices": {"Prices": ["__init__", "of_outputs", "of_inputs", "output_moves", "input_moves", "fits", "plain",
+                          "__eq__"]}}
+SIGNATURES = {
+    ("terms", "Place"): "name", ("terms", "End"): "end", ("terms", "Lesser"): "*terms", ("terms", "Greater"): "*terms",
+    ("machines", "Row"): "mode registers outputs",
+    ("machines", "Machine"): "rows *inputs= *outputs= *first= *begin=", ("runs", "Run"): "machine",
+    ("prices", "Prices"): "outputs inputs *output_moves= *input_moves="}
+METHODS = {
+    ("terms", "Term", "at"): "values", ("terms", "Term", "put"): "terms", ("machines", "Machine", "row_at"): "mode letter",
+    ("runs", "State", "at_level"): "level", ("runs", "Run", "do"): "letter *values",
+    ("runs", "Run", "do_all"): "history", ("runs", "Run", "tried"): "history",
+    ("prices", "Prices", "of_outputs"): "letter", ("prices", "Prices", "of_inputs"): "letter",
+    ("prices", "Prices", "fits"): "machine", ("prices", "Prices", "plain"): "machine outputs inputs"}
+
+
+def parameters(function):
+    """Return the parameters of a function in one string: `*rest` for a star, `*name=` for what goes by name only."""
+    words = []
+    for name, parameter in inspect.signature(function).parameters.items():
+        if name != "self":
+            words.append({"VAR_POSITIONAL": "*" + name, "KEYWORD_ONLY": "*" + name + "="}.get(
+                parameter.kind.name, name))
+    return " ".join(words)
+
+
+def defined_in(module):
+    """Return the names of what a file of the package defines by def and class."""
+    with open(os.path.join(FOLDER, module + ".py"), encoding="utf-8") as source:
+        tree = ast.parse(source.read())
+    return [node.name for node in tree.body if isinstance(node, (ast.FunctionDef, ast.ClassDef))]
+
+
+class Interface(unittest.TestCase):
+
+    def test_functions(self):
+        for module, functions in FUNCTIONS.items():
+            there = importlib.import_module("heldranks." + module)
+            for name, expected in functions.items():
+                with self.subTest(module=module, name=name):
+                    self.assertIn(name, defined_in(module))
+                    self.assertEqual(parameters(getattr(there, name)), expected)
+
+    def test_classes(self):
+        for module, classes in CLASSES.items():
+            there = importlib.import_module("heldranks." + module)
+            for name, methods in classes.items():
+                self.assertIn(name, defined_in(module))
+                for method in methods:
+                    with self.subTest(module=module, name=name, method=method):
+                        self.assertIn(method, vars(getattr(there, name)))
+
+    def test_parameters_of_classes(self):
+        for (module, name), expected in SIGNATURES.items():
+            self.assertEqual(parameters(getattr(importlib.import_module("heldranks." + module), name)), expected)
+
+    def test_parameters_of_methods(self):
+        for (module, name, method), expected in METHODS.items():
+            there = getattr(importlib.import_module("heldranks." + module), name)
+            for kind in [there] + there.__subclasses__():
+                self.assertEqual(parameters(getattr(kind, method)), expected)
+
+
+if __name__ == "__main__":
+    unittest.main()
