@@ -1,8 +1,11 @@
-"""Checks of parameters that several files have: machines, letters and histories."""
+"""Checks of parameters that several files have: machines, letters, inputs and histories.
 
-from heldranks.errors import InvalidHistory, InvalidMachine, UnknownLetter
+A chart and a table have letters and inputs as a machine has them, so most of these checks serve for them as well.
+"""
+
+from heldranks.errors import InvalidCount, InvalidEnds, InvalidHistory, InvalidMachine, UnknownLetter
 from heldranks.machines import Machine
-from heldranks.values import is_end, is_list, is_name, is_value
+from heldranks.values import are_ends, is_count, is_end, is_list, is_name, is_value
 
 
 def check_machine(machine):
@@ -15,6 +18,19 @@ def check_letter(machine, letter):
     """Raise UnknownLetter for any value that is no letter of a machine."""
     if letter not in machine.letters:
         raise UnknownLetter(letter)
+
+
+def check_number(number, many):
+    """Raise InvalidCount for any value that is no COUNT below so many."""
+    if not is_count(number) or number >= many:
+        raise InvalidCount(number)
+
+
+def check_move(machine, letter, ends):
+    """Raise UnknownLetter or InvalidEnds unless a letter and ENDS are a move of a machine."""
+    check_letter(machine, letter)
+    if not are_ends(ends, machine.inputs):
+        raise InvalidEnds(ends)
 
 
 def check_history(machine, history):
@@ -31,10 +47,14 @@ def check_ticks(machine, history, is_right):
     """Raise InvalidHistory unless history is a list of ticks of a machine whose values all are right."""
     if not is_list(history):
         raise InvalidHistory(None)
-    letters = machine.letters
     for position, tick in enumerate(history):
-        if not _has_parts(tick, is_right) or tick[0] not in letters or len(tick[1]) != machine.inputs:
+        if not _is_tick(machine, tick, is_right):
             raise InvalidHistory(position)
+
+
+def are_ticks(machine, value, is_right):
+    """Tell whether any value is a list of ticks of a machine whose values all are right."""
+    return is_list(value) and all([_is_tick(machine, tick, is_right) for tick in value])
 
 
 def check_any_ticks(history):
@@ -44,6 +64,11 @@ def check_any_ticks(history):
     for position, tick in enumerate(history):
         if not _has_parts(tick, is_value) or not is_name(tick[0]):
             raise InvalidHistory(position)
+
+
+def _is_tick(machine, tick, is_right):
+    """Tell whether any value is a tick of a machine whose values all are right."""
+    return _has_parts(tick, is_right) and tick[0] in machine.letters and len(tick[1]) == machine.inputs
 
 
 def _has_parts(tick, is_right):

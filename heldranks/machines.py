@@ -3,7 +3,7 @@
 from heldranks.errors import InvalidCount, InvalidEnds, InvalidName, InvalidRows, InvalidTerms
 from heldranks.errors import TooMany, UnknownLetter, UnknownMode, WrongRow
 from heldranks.terms import Term, places_of
-from heldranks.values import is_count, is_end, is_list, is_name
+from heldranks.values import all_ends, is_count, is_end, is_list, is_name
 
 
 class Row:
@@ -88,6 +88,7 @@ class Machine:
         self._begin = tuple(begin)
         self._check_rows()
         self._check_limits()
+        self._end_steps = {}
 
     def _check_rows(self):
         """Raise WrongRow with the first tuple (mode, letter) that has no row that fits."""
@@ -163,3 +164,21 @@ class Machine:
     def rows(self):
         """Return the dict of the Rows by tuples (mode, letter)."""
         return {pair: self._rows[pair] for pair in self._rows}
+
+    def end_steps(self, state):
+        """Return the steps of what surely is an end state: tuples (outputs, next end state), one for each move."""
+        # Most questions go through the same steps again and again, so they are worked out only once.
+        if state not in self._end_steps:
+            self._end_steps[state] = self._steps_at(state)
+        return list(self._end_steps[state])
+
+    def _steps_at(self, state):
+        """Work out what end_steps() returns."""
+        mode, registers = state
+        found = []
+        for letter in self._letters:
+            row = self._rows[mode, letter]
+            for ends in all_ends(self._inputs):
+                outputs, kept = row_done(row, registers, ends)
+                found.append((outputs, (row.mode, kept)))
+        return found

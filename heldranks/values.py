@@ -53,12 +53,22 @@ def are_ends(values, many):
     return isinstance(values, tuple) and len(values) == many and all([is_end(value) for value in values])
 
 
-def all_ends(many):
-    """Return the list of all tuples of so many ENDS, in order."""
+def are_under(one, other):
+    """Tell whether no END of a tuple is TOP where that of another tuple is BOTTOM."""
+    return not any([low == TOP and high == BOTTOM for low, high in zip(one, other)])
+
+
+def tuples_of(values, many):
+    """Return the list of all tuples of so many of these values, in their order."""
     found = [()]
     for _ in range(many):
-        found = [(*ends, end) for ends in found for end in (BOTTOM, TOP)]
+        found = [(*chosen, value) for chosen in found for value in values]
     return found
+
+
+def all_ends(many):
+    """Return the list of all tuples of so many ENDS, in order."""
+    return tuples_of((BOTTOM, TOP), many)
 
 
 def rank(value):

@@ -19,6 +19,18 @@ FUNCTIONS = {
              "history_at": "history level"},
     "makers": {"line": "many", "pile": "many", "ranked": "many", "best": "many", "recent": "many kth", "record": ""},
     "ends": {"moves": "machine", "end_states": "machine", "end_step": "machine state letter ends"},
+    "pairs": {"has_one_shape": "one other", "are_alike": "one other", "is_at_most": "one other",
+              "parting": "one other", "excess": "one other", "alike_paper": "one other", "at_most_paper": "one other",
+              "is_alike_paper": "one other value", "is_at_most_paper": "one other value"},
+    "idle": {"idle_registers": "machine", "idle_inputs": "machine", "idle_letters": "machine",
+             "register_matters": "machine number", "input_matters": "machine letter number",
+             "letter_matters": "machine letter"},
+    "charts": {},
+    "needed": {"needed": "machine history", "row_after": "machine history", "call": "machine history value",
+               "rest_paper": "machine history value", "is_rest_paper": "machine history value paper",
+               "are_interchangeable": "one history other following",
+               "parting_future": "one history other following"},
+    "holders": {},
     "prices": {"worth": "machine prices most history", "end_worth": "machine prices history"}}
 CLASSES = {
     "terms": {"Term": OF_TERMS, "Place": OF_TERMS + ["__init__", "name"], "End": OF_TERMS + ["__init__", "end"],
@@ -29,17 +41,29 @@ CLASSES = {
                              "rows"]},
     "runs": {"State": ["mode", "registers", "levels", "at_level", "__eq__"],
              "Run": ["__init__", "do", "do_all", "undo", "machine", "state", "ticks", "history", "copy", "tried"]},
+    "charts": {"Chart": ["of_machine", "letters", "inputs", "outputs", "__len__", "moves", "next_class", "told",
+                         "class_after", "is_at_most", "parted_by", "above_by", "__eq__"]},
+    "holders": {"Holder": ["__init__", "of_machine", "chart", "cells", "row", "do", "do_all", "reset", "copy", "__eq__",
+                           "__len__", "__contains__"]},
     "prices": {"Prices": ["__init__", "of_outputs", "of_inputs", "output_moves", "input_moves", "fits", "plain",
                           "__eq__"]}}
 SIGNATURES = {
     ("terms", "Place"): "name", ("terms", "End"): "end", ("terms", "Lesser"): "*terms", ("terms", "Greater"): "*terms",
     ("machines", "Row"): "mode registers outputs",
     ("machines", "Machine"): "rows *inputs= *outputs= *first= *begin=", ("runs", "Run"): "machine",
+    ("holders", "Holder"): "chart",
     ("prices", "Prices"): "outputs inputs *output_moves= *input_moves="}
 METHODS = {
     ("terms", "Term", "at"): "values", ("terms", "Term", "put"): "terms", ("machines", "Machine", "row_at"): "mode letter",
     ("runs", "State", "at_level"): "level", ("runs", "Run", "do"): "letter *values",
     ("runs", "Run", "do_all"): "history", ("runs", "Run", "tried"): "history",
+    ("charts", "Chart", "of_machine"): "machine", ("charts", "Chart", "moves"): "",
+    ("charts", "Chart", "next_class"): "number letter ends", ("charts", "Chart", "told"): "number letter ends",
+    ("charts", "Chart", "class_after"): "history", ("charts", "Chart", "is_at_most"): "one other",
+    ("charts", "Chart", "parted_by"): "one other", ("charts", "Chart", "above_by"): "one other",
+    ("holders", "Holder", "of_machine"): "machine", ("holders", "Holder", "do"): "letter *values",
+    ("holders", "Holder", "do_all"): "history", ("holders", "Holder", "reset"): "",
+    ("holders", "Holder", "copy"): "",
     ("prices", "Prices", "of_outputs"): "letter", ("prices", "Prices", "of_inputs"): "letter",
     ("prices", "Prices", "fits"): "machine", ("prices", "Prices", "plain"): "machine outputs inputs"}
 
