@@ -31,6 +31,15 @@ FUNCTIONS = {
                "are_interchangeable": "one history other following",
                "parting_future": "one history other following"},
     "holders": {},
+    "rows": {"rows_of": "chart", "most_needed": "chart", "most_ticks": "chart", "most_history": "chart",
+             "rows_paper": "chart", "is_rows_paper": "chart many value", "rows_from": "chart row"},
+    "tables": {},
+    "back": {"merged": "table", "is_rising": "table", "falling": "table", "rising_paper": "table",
+             "is_rising_paper": "table value", "machine_of": "table", "is_machine_of": "table machine"},
+    "ages": {"age_of": "machine letter number", "greatest_age": "machine", "memory": "machine",
+             "age_history": "machine letter number age", "is_age_history": "machine letter number age value",
+             "age_paper": "machine letter number", "is_age_paper": "machine letter number most value",
+             "endless_age": "machine letter number", "is_endless_age": "machine letter number value"},
     "prices": {"worth": "machine prices most history", "end_worth": "machine prices history"}}
 CLASSES = {
     "terms": {"Term": OF_TERMS, "Place": OF_TERMS + ["__init__", "name"], "End": OF_TERMS + ["__init__", "end"],
@@ -45,13 +54,15 @@ CLASSES = {
                          "class_after", "is_at_most", "parted_by", "above_by", "__eq__"]},
     "holders": {"Holder": ["__init__", "of_machine", "chart", "cells", "row", "do", "do_all", "reset", "copy", "__eq__",
                            "__len__", "__contains__"]},
+    "tables": {"Table": ["__init__", "letters", "inputs", "outputs", "__len__", "step", "steps", "outputs_of", "of_chart",
+                         "__eq__"]},
     "prices": {"Prices": ["__init__", "of_outputs", "of_inputs", "output_moves", "input_moves", "fits", "plain",
                           "__eq__"]}}
 SIGNATURES = {
     ("terms", "Place"): "name", ("terms", "End"): "end", ("terms", "Lesser"): "*terms", ("terms", "Greater"): "*terms",
     ("machines", "Row"): "mode registers outputs",
     ("machines", "Machine"): "rows *inputs= *outputs= *first= *begin=", ("runs", "Run"): "machine",
-    ("holders", "Holder"): "chart",
+    ("holders", "Holder"): "chart", ("tables", "Table"): "steps *inputs= *outputs=",
     ("prices", "Prices"): "outputs inputs *output_moves= *input_moves="}
 METHODS = {
     ("terms", "Term", "at"): "values", ("terms", "Term", "put"): "terms", ("machines", "Machine", "row_at"): "mode letter",
@@ -63,7 +74,9 @@ METHODS = {
     ("charts", "Chart", "parted_by"): "one other", ("charts", "Chart", "above_by"): "one other",
     ("holders", "Holder", "of_machine"): "machine", ("holders", "Holder", "do"): "letter *values",
     ("holders", "Holder", "do_all"): "history", ("holders", "Holder", "reset"): "",
-    ("holders", "Holder", "copy"): "",
+    ("holders", "Holder", "copy"): "", ("tables", "Table", "step"): "state letter ends",
+    ("tables", "Table", "steps"): "", ("tables", "Table", "outputs_of"): "history",
+    ("tables", "Table", "of_chart"): "chart",
     ("prices", "Prices", "of_outputs"): "letter", ("prices", "Prices", "of_inputs"): "letter",
     ("prices", "Prices", "fits"): "machine", ("prices", "Prices", "plain"): "machine outputs inputs"}
 
