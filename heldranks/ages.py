@@ -9,13 +9,13 @@ from heldranks.runs import outputs_of
 from heldranks.values import BOTTOM, NO_BOUND, TOP, are_ends, is_count, is_end, is_integer, is_value
 from heldranks.walks import are_equal, first_parted, histories_to, is_any, same_doubles, walked, way_to
 
-_MOST_AGE = 40
+MOST_AGE = 40
 _PUT_IN = 1
 
 
 def age_of(machine, letter, number):
     """Return the age of an input of a letter: a COUNT, None or NO_BOUND."""
-    _check_input(machine, letter, number)
+    check_input(machine, letter, number)
     return _age_by(machine, reached_steps(machine), letter, number)
 
 
@@ -38,43 +38,57 @@ def memory(machine):
 
 def age_history(machine, letter, number, age):
     """Return a history in which an INTEGER comes out with an age, where it is put in, and at which output, or None."""
-    _check_input(machine, letter, number)
+    check_input(machine, letter, number)
     _check_age(age)
-    steps, ordered = reached_steps(machine), moves(machine)
-    flips = flips_of(steps, ordered, letter, number)
-    graph = _graph_of(steps, _came_from(steps, ordered, flips))
-    layers = _layers_of(graph, age)
-    for flip in flips:
-        pair = flip_pair(steps, flip)
-        if (age == 0 and tells_at_once(steps, flip)) or pair in layers[age]:
-            past = histories_to(steps, first_end_state(machine), ordered)[flip[0]]
-            put_in = with_value(ordered[flip[1]], number, _PUT_IN)
-            history = past + [put_in] + _way_by(graph, layers, ordered, pair)
-            return (history, len(past), outputs_of(machine, history)[-1].index(_PUT_IN))
-    return None
+    steps = reached_steps(machine)
+    flips = flips_of(steps, moves(machine), letter, number)
+    graph = _graph_of(steps, _came_from(steps, moves(machine), flips))
+    return _told_by(machine, flips, graph, _layers_of(graph, age), number)
+
+
+def late_age_history(machine, letter, number, least):
+    """Return what age_history() returns, for some age that is at least so many, or None if there is none."""
+    age = age_of(machine, letter, number)
+    if age is None or (age != NO_BOUND and age < least):
+        return None
+    steps = reached_steps(machine)
+    flips = flips_of(steps, moves(machine), letter, number)
+    graph = _graph_of(steps, _came_from(steps, moves(machine), flips))
+    layers = _layers_of(graph, least)
+    found = _told_by(machine, flips, graph, layers, number)
+    # Not every age below the greatest one needs to be possible.
+    while found is None:
+        layers.append(_layer_behind(graph, layers))
+        found = _told_by(machine, flips, graph, layers, number)
+    return found
 
 
 def is_age_history(machine, letter, number, age, value):
     """Tell whether any value is a tuple as age_history() returns it."""
-    _check_input(machine, letter, number)
+    check_input(machine, letter, number)
     _check_age(age)
     check_states(machine)
+    return age_in(machine, letter, number, value) == age
+
+
+def age_in(machine, letter, number, value):
+    """Return the age that any value tells as a tuple of age_history() does, or None if it is no such tuple."""
     if not isinstance(value, tuple) or len(value) != 3:
-        return False
+        return None
     history, tick, output = value
     if not are_ticks(machine, history, is_value) or not is_count(tick) or not is_count(output):
-        return False
-    if len(history) != tick + age + 1 or output >= machine.outputs or history[tick][0] != letter:
-        return False
+        return None
+    if tick >= len(history) or output >= machine.outputs or history[tick][0] != letter:
+        return None
     put_in = history[tick][1][number]
     if not is_integer(put_in) or len([True for _, values in history for given in values if given == put_in]) != 1:
-        return False
-    return outputs_of(machine, history)[-1][output] == put_in
+        return None
+    return len(history) - 1 - tick if outputs_of(machine, history)[-1][output] == put_in else None
 
 
 def age_paper(machine, letter, number):
     """Return an age paper for the age of an input of a letter, or None if the age has no bound."""
-    _check_input(machine, letter, number)
+    check_input(machine, letter, number)
     steps, ordered = reached_steps(machine), moves(machine)
     graph = _graph_of(steps, _came_from(steps, ordered, flips_of(steps, ordered, letter, number)))
     ranks = _ranks_of(graph)
@@ -83,7 +97,7 @@ def age_paper(machine, letter, number):
 
 def is_age_paper(machine, letter, number, most, value):
     """Tell whether any value is an age paper for a COUNT or None."""
-    _check_input(machine, letter, number)
+    check_input(machine, letter, number)
     if most is not None and not is_count(most):
         raise InvalidCount(most)
     steps = reached_steps(machine)
@@ -100,7 +114,7 @@ def is_age_paper(machine, letter, number, most, value):
 
 def endless_age(machine, letter, number):
     """Return an endless age of an input of a letter, or None if its age has a bound or is None."""
-    _check_input(machine, letter, number)
+    check_input(machine, letter, number)
     steps, ordered = reached_steps(machine), moves(machine)
     flips = flips_of(steps, ordered, letter, number)
     came = _came_from(steps, ordered, flips)
@@ -120,7 +134,7 @@ def endless_age(machine, letter, number):
 
 def is_endless_age(machine, letter, number, value):
     """Tell whether any value is an endless age of an input of a letter."""
-    _check_input(machine, letter, number)
+    check_input(machine, letter, number)
     check_states(machine)
     if not isinstance(value, tuple) or len(value) != 5:
         return False
@@ -137,7 +151,7 @@ def is_endless_age(machine, letter, number, value):
     return last_outputs(machine, one, behind) != last_outputs(machine, other, behind)
 
 
-def _check_input(machine, letter, number):
+def check_input(machine, letter, number):
     """Raise the errors of a machine, a letter and the number of an input."""
     check_machine(machine)
     check_letter(machine, letter)
@@ -146,7 +160,7 @@ def _check_input(machine, letter, number):
 
 def _check_age(age):
     """Raise InvalidCount unless an age is a COUNT that is looked for."""
-    check_number(age, _MOST_AGE + 1)
+    check_number(age, MOST_AGE + 1)
 
 
 def _age_by(machine, steps, letter, number):
@@ -225,16 +239,34 @@ def _telling_pairs(graph, before):
     return found
 
 
+def _told_by(machine, flips, graph, layers, number):
+    """Return a history, where an INTEGER is put in there, and at which output it comes out by the layers, or None."""
+    steps, ordered = reached_steps(machine), moves(machine)
+    for flip in flips:
+        pair = flip_pair(steps, flip)
+        if (len(layers) == 1 and tells_at_once(steps, flip)) or pair in layers[-1]:
+            past = histories_to(steps, first_end_state(machine), ordered)[flip[0]]
+            put_in = with_value(ordered[flip[1]], number, _PUT_IN)
+            history = past + [put_in] + _way_by(graph, layers, ordered, pair)
+            return (history, len(past), outputs_of(machine, history)[-1].index(_PUT_IN))
+    return None
+
+
 def _layers_of(graph, age):
     """Return a list of dicts of True; the one at k has the pairs from which outputs can be unlike at the k-th tick.
 
     The one at 0 is empty: whether outputs are unlike at the tick of a flip is not asked of its pair.
     """
     layers = [{}]
-    for ticks in range(1, age + 1):
-        pairs = [pair for pair in graph if any([_leads_on(layers, edge, ticks) for edge in graph[pair]])]
-        layers.append({pair: True for pair in pairs})
+    for _ in range(age):
+        layers.append(_layer_behind(graph, layers))
     return layers
+
+
+def _layer_behind(graph, layers):
+    """Return the dict of the layer that follows some layers."""
+    ticks = len(layers)
+    return {pair: True for pair in graph if any([_leads_on(layers, edge, ticks) for edge in graph[pair]])}
 
 
 def _leads_on(layers, edge, ticks):

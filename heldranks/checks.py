@@ -48,13 +48,13 @@ def check_ticks(machine, history, is_right):
     if not is_list(history):
         raise InvalidHistory(None)
     for position, tick in enumerate(history):
-        if not _is_tick(machine, tick, is_right):
+        if not is_tick(machine, tick, is_right):
             raise InvalidHistory(position)
 
 
 def are_ticks(machine, value, is_right):
     """Tell whether any value is a list of ticks of a machine whose values all are right."""
-    return is_list(value) and all([_is_tick(machine, tick, is_right) for tick in value])
+    return is_list(value) and all([is_tick(machine, tick, is_right) for tick in value])
 
 
 def check_any_ticks(history):
@@ -62,16 +62,16 @@ def check_any_ticks(history):
     if not is_list(history):
         raise InvalidHistory(None)
     for position, tick in enumerate(history):
-        if not _has_parts(tick, is_value) or not is_name(tick[0]):
+        if not has_tick_parts(tick, is_value) or not is_name(tick[0]):
             raise InvalidHistory(position)
 
 
-def _is_tick(machine, tick, is_right):
+def is_tick(machine, tick, is_right):
     """Tell whether any value is a tick of a machine whose values all are right."""
-    return _has_parts(tick, is_right) and tick[0] in machine.letters and len(tick[1]) == machine.inputs
+    return has_tick_parts(tick, is_right) and tick[0] in machine.letters and len(tick[1]) == machine.inputs
 
 
-def _has_parts(tick, is_right):
+def has_tick_parts(tick, is_right):
     """Tell whether any value is a tuple of something and a tuple of values that all are right."""
     if not isinstance(tick, tuple) or len(tick) != 2 or not isinstance(tick[1], tuple):
         return False

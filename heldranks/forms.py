@@ -57,6 +57,11 @@ def showing(one, other):
     return {name: TOP if _has(chosen, k) else BOTTOM for k, name in enumerate(places)}
 
 
+def plain_term(term):
+    """Return a short Term that has the same values as what surely is a Term."""
+    return _built(form_of(term))
+
+
 def _check_term(term):
     """Raise InvalidTerm for any value that is no Term."""
     if not isinstance(term, Term):

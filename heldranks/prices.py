@@ -55,9 +55,9 @@ class Prices:
     def plain(cls, machine, outputs, inputs):
         """Return the Prices that are the same for all letters of a machine."""
         check_machine(machine)
-        if not _are_integers(outputs) or len(outputs) != machine.outputs:
+        if not are_integers(outputs) or len(outputs) != machine.outputs:
             raise InvalidPrices(outputs)
-        if not _are_integers(inputs) or len(inputs) != machine.inputs:
+        if not are_integers(inputs) or len(inputs) != machine.inputs:
             raise InvalidPrices(inputs)
         by_outputs = {letter: outputs for letter in machine.letters}
         by_inputs = {letter: inputs for letter in machine.letters}
@@ -71,7 +71,7 @@ class Prices:
 
 def worth(machine, prices, most, history):
     """Return the worth of a history with values from 0 to most, BOTTOM counting as 0 and TOP as most."""
-    _check_fitting(machine, prices)
+    check_fitting(machine, prices)
     if not is_integer(most) or most < 1:
         raise InvalidCount(most)
     check_ticks(machine, history, lambda value: is_count(value) and value <= most)
@@ -80,31 +80,48 @@ def worth(machine, prices, most, history):
 
 def end_worth(machine, prices, history):
     """Return the worth of an end history, BOTTOM counting as 0 and TOP as 1."""
-    _check_fitting(machine, prices)
+    check_fitting(machine, prices)
     check_end_history(machine, history)
     return _sum_over(machine, prices, 1, history)
 
 
-def _check_fitting(machine, prices):
+def check_fitting(machine, prices):
     """Raise InvalidMachine for what is no Machine, and InvalidPrices for what are no Prices that fit it."""
     check_machine(machine)
     if not isinstance(prices, Prices) or not prices.fits(machine):
         raise InvalidPrices(prices)
 
 
+def tick_worth(prices, most, letter, before, now):
+    """Return what a tick is worth, for the tuple (inputs, outputs) of the tick before, () at first, and of this one."""
+    inputs, outputs = _as_numbers(now, most)
+    total = _times(prices.of_outputs(letter), outputs) + _times(prices.of_inputs(letter), inputs)
+    if before:
+        last_inputs, last_outputs = _as_numbers(before, most)
+        total += _times(prices.output_moves, _movements(last_outputs, outputs))
+        total += _times(prices.input_moves, _movements(last_inputs, inputs))
+    return total
+
+
+def are_integers(value):
+    """Tell whether any value is a tuple of INTEGERS."""
+    return isinstance(value, tuple) and all([is_integer(price) for price in value])
+
+
 def _sum_over(machine, prices, most, history):
     """Return the sum of what all ticks are worth."""
     total = 0
-    before = None
+    before = ()
     for tick, outputs in zip(history, outputs_of(machine, history)):
         letter, values = tick
-        now = ([_as_number(value, most) for value in outputs], [_as_number(value, most) for value in values])
-        total += _times(prices.of_outputs(letter), now[0]) + _times(prices.of_inputs(letter), now[1])
-        if before is not None:
-            total += _times(prices.output_moves, _movements(before[0], now[0]))
-            total += _times(prices.input_moves, _movements(before[1], now[1]))
-        before = now
+        total += tick_worth(prices, most, letter, before, (values, outputs))
+        before = (values, outputs)
     return total
+
+
+def _as_numbers(both, most):
+    """Return the list of two lists of what the VALUES of two tuples count as."""
+    return [[_as_number(value, most) for value in values] for values in both]
 
 
 def _as_number(value, most):
@@ -124,16 +141,11 @@ def _movements(before, now):
     return [abs(number - last) for last, number in zip(before, now)]
 
 
-def _are_integers(value):
-    """Tell whether any value is a tuple of INTEGERS."""
-    return isinstance(value, tuple) and all([is_integer(price) for price in value])
-
-
 def _are_prices(value):
     """Tell whether any value is a dict from one letter or more to tuples of INTEGERS of equal lengths."""
     if not isinstance(value, dict) or not value:
         return False
-    if not all([is_name(letter) and _are_integers(value[letter]) for letter in value]):
+    if not all([is_name(letter) and are_integers(value[letter]) for letter in value]):
         return False
     return all([len(value[letter]) == _width(value) for letter in value])
 
@@ -145,6 +157,6 @@ def _width(prices):
 
 def _checked_moves(prices, many):
     """Return a tuple of so many prices of movements, 0 each for an empty tuple; InvalidPrices for wrong ones."""
-    if not _are_integers(prices) or len(prices) not in (0, many):
+    if not are_integers(prices) or len(prices) not in (0, many):
         raise InvalidPrices(prices)
     return prices if prices else (0,) * many

@@ -108,6 +108,27 @@ def _check_values(values):
             raise InvalidValue(value)
 
 
+def integer_in(word):
+    """Return the INTEGER that a word stands for, or None if it stands for none.
+
+    A word has decimal digits without unnecessary zeros, and a minus in front of numbers below 0.
+    """
+    digits = word.removeprefix("-")
+    if not digits or not all([sign in _DIGITS for sign in digits]):
+        return None
+    if digits[0] == "0" and word != "0":
+        return None
+    found = 0
+    for sign in digits:
+        found = 10 * found + _DIGITS.index(sign)
+    return found if digits == word else -found
+
+
+def value_in_word(word):
+    """Return the VALUE that a word stands for, or None if it stands for none."""
+    return word if is_end(word) else integer_in(word)
+
+
 def is_at_least(one, other):
     """Tell whether the first VALUE is not less than the second one."""
     _check_values((one, other))

@@ -40,7 +40,24 @@ FUNCTIONS = {
              "age_history": "machine letter number age", "is_age_history": "machine letter number age value",
              "age_paper": "machine letter number", "is_age_paper": "machine letter number most value",
              "endless_age": "machine letter number", "is_endless_age": "machine letter number value"},
-    "prices": {"worth": "machine prices most history", "end_worth": "machine prices history"}}
+    "forgetting": {"past_ticks": "machine", "still_apart": "machine many", "is_still_apart": "machine many value",
+                   "forgets": "machine letters", "remembered": "machine letters",
+                   "is_remembered": "machine letters value"},
+    "late": {"is_late_by": "one other many", "late_parting": "one other many", "late_paper": "one other many",
+             "is_late_paper": "one other many value"},
+    "prices": {"worth": "machine prices most history", "end_worth": "machine prices history"},
+    "worth": {"greatest_worth": "machine prices", "worth_history": "machine prices", "worth_paper": "machine prices",
+              "is_worth_paper": "machine prices most value", "endless_worth": "machine prices",
+              "round_worth": "machine prices value", "greatest_rate": "machine prices", "rate_round": "machine prices",
+              "rate_paper": "machine prices", "is_rate_paper": "machine prices rate value"},
+    "factors": {"factor": "machine output number", "factor_round": "machine output number",
+                "wrong_value": "machine weights", "wrong_histories": "machine weights"},
+    "joined": {"after": "one other", "beside": "one other", "looped": "machine output number end"},
+    "nests": {"far": "machine nest", "far_outputs": "machine nest", "far_ticks": "nest"},
+    "streams": {"left_ends": "machine many", "left_streams": "machine many most"},
+    "texts": {"machine_text": "machine", "read_machine": "text", "read_term": "text"},
+    "judge": {"is_claim": "value", "is_certificate": "claim value", "certificate_of": "claim"},
+    "desk": {}}
 CLASSES = {
     "terms": {"Term": OF_TERMS, "Place": OF_TERMS + ["__init__", "name"], "End": OF_TERMS + ["__init__", "end"],
               "Lesser": OF_TERMS + ["__init__", "parts"], "Greater": OF_TERMS + ["__init__", "parts"]},
@@ -57,13 +74,14 @@ CLASSES = {
     "tables": {"Table": ["__init__", "letters", "inputs", "outputs", "__len__", "step", "steps", "outputs_of", "of_chart",
                          "__eq__"]},
     "prices": {"Prices": ["__init__", "of_outputs", "of_inputs", "output_moves", "input_moves", "fits", "plain",
-                          "__eq__"]}}
+                          "__eq__"]},
+    "desk": {"Desk": ["__init__", "do", "do_all", "undo", "log", "tried", "names"]}}
 SIGNATURES = {
     ("terms", "Place"): "name", ("terms", "End"): "end", ("terms", "Lesser"): "*terms", ("terms", "Greater"): "*terms",
     ("machines", "Row"): "mode registers outputs",
     ("machines", "Machine"): "rows *inputs= *outputs= *first= *begin=", ("runs", "Run"): "machine",
     ("holders", "Holder"): "chart", ("tables", "Table"): "steps *inputs= *outputs=",
-    ("prices", "Prices"): "outputs inputs *output_moves= *input_moves="}
+    ("prices", "Prices"): "outputs inputs *output_moves= *input_moves=", ("desk", "Desk"): ""}
 METHODS = {
     ("terms", "Term", "at"): "values", ("terms", "Term", "put"): "terms", ("machines", "Machine", "row_at"): "mode letter",
     ("runs", "State", "at_level"): "level", ("runs", "Run", "do"): "letter *values",
@@ -78,7 +96,9 @@ METHODS = {
     ("tables", "Table", "steps"): "", ("tables", "Table", "outputs_of"): "history",
     ("tables", "Table", "of_chart"): "chart",
     ("prices", "Prices", "of_outputs"): "letter", ("prices", "Prices", "of_inputs"): "letter",
-    ("prices", "Prices", "fits"): "machine", ("prices", "Prices", "plain"): "machine outputs inputs"}
+    ("prices", "Prices", "fits"): "machine", ("prices", "Prices", "plain"): "machine outputs inputs",
+    ("desk", "Desk", "do"): "command", ("desk", "Desk", "do_all"): "commands", ("desk", "Desk", "undo"): "",
+    ("desk", "Desk", "log"): "", ("desk", "Desk", "tried"): "commands", ("desk", "Desk", "names"): ""}
 
 
 def parameters(function):
