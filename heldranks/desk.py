@@ -125,7 +125,8 @@ def _read(kind, word):
         return value_in_word(word)
     if kind == "end":
         return word if is_end(word) else None
-    return word if kind == "word" or is_name(word) else None
+    # All other words are names, or look as names do.
+    return word if is_name(word) else None
 
 
 def _check_names(stand, form, words):

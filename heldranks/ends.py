@@ -4,6 +4,7 @@ from heldranks.checks import check_machine, check_move
 from heldranks.errors import InvalidEndState, TooMany
 from heldranks.machines import row_done
 from heldranks.values import all_ends, are_ends
+from heldranks.walks import steps_met
 
 MOST_STATES = 96
 
@@ -69,16 +70,7 @@ def check_states(machine):
 
 def steps_behind(machine, states):
     """Return a dict from some end states, and all that they lead to, to the list of their steps by all moves."""
-    found = {}
-    waiting = list(states)
-    at = 0
-    while at < len(waiting):
-        state = waiting[at]
-        if state not in found:
-            found[state] = machine.end_steps(state)
-            waiting.extend([behind for _, behind in found[state]])
-        at += 1
-    return found
+    return steps_met(states, lambda state: machine.end_steps(state))
 
 
 def state_behind(machine, state, history):

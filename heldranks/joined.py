@@ -49,9 +49,9 @@ def looped(machine, output, number, end):
 def _paired(one, other, joined_row, outputs):
     """Return the Machine whose modes are the reached pairs of modes, with Rows that are made of both Rows."""
     names = _pair_names(one, other)
+    # Registers beyond the last place cannot even be named; what else is too much is told by the Machine.
     _check_most("modes", len(names), Machine.MOST_MODES)
     _check_most("registers", one.registers + other.registers, Machine.MOST_REGISTERS)
-    _check_most("outputs", outputs, Machine.MOST_OUTPUTS)
     moved = {REGISTERS[k]: Place(REGISTERS[k + one.registers]) for k in range(other.registers)}
     rows = {}
     for mode, across in names:

@@ -5,7 +5,7 @@ from heldranks.ends import check_states, first_end_state, is_end_state, moves, r
 from heldranks.errors import InvalidCount
 from heldranks.pairs import check_shapes
 from heldranks.values import are_ends, is_integer, is_list
-from heldranks.walks import all_pairs, first_parted, is_closed, same_doubles
+from heldranks.walks import all_pairs, first_parted, is_closed, same_doubles, steps_met
 
 _MOST_LATE = 3
 
@@ -78,16 +78,7 @@ def _waiting_steps(machine, many, nodes):
 
     The outputs of such a step are those that the machine had so many ticks before, or None if there is no such tick.
     """
-    found = {}
-    waiting = list(nodes)
-    at = 0
-    while at < len(waiting):
-        node = waiting[at]
-        if node not in found:
-            found[node] = _steps_with_queue(machine, many, node)
-            waiting.extend([behind for _, behind in found[node]])
-        at += 1
-    return found
+    return steps_met(nodes, lambda node: _steps_with_queue(machine, many, node))
 
 
 def _steps_with_queue(machine, many, node):

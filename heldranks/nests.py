@@ -13,7 +13,7 @@ def far(machine, nest):
     """Return the State behind a nest."""
     check_machine(machine)
     _check_nest(nest, lambda tick: is_tick(machine, tick, is_value))
-    state, _ = _nest_done(machine, nest, first_state(machine), None)
+    state, _ = _behind(machine, nest)
     return state
 
 
@@ -21,7 +21,7 @@ def far_outputs(machine, nest):
     """Return the outputs of the last tick of a nest, or None if it has no tick."""
     check_machine(machine)
     _check_nest(nest, lambda tick: is_tick(machine, tick, is_value))
-    _, outputs = _nest_done(machine, nest, first_state(machine), None)
+    _, outputs = _behind(machine, nest)
     return outputs
 
 
@@ -70,31 +70,47 @@ def _ticks_in(nest):
     return sum([part[1] * _ticks_in(part[0]) if _is_repeated(part) else 1 for part in nest])
 
 
-def _nest_done(machine, nest, state, outputs):
-    """Return the State behind a nest and the outputs of its last tick; those that are passed if it has no tick."""
-    for part in nest:
-        if _is_repeated(part):
-            state, outputs = _repeated(machine, part, state, outputs)
+def _behind(machine, nest):
+    """Return the State behind what surely is a nest, and the outputs of its last tick, None if it has no tick."""
+    return _nest_done(machine, _with_room(nest), first_state(machine))
+
+
+def _with_room(nest):
+    """Return a list of ticks and of tuples (list, times, dict) for a nest; the dicts get what is made of States."""
+    return [(_with_room(part[0]), part[1], {}) if _is_repeated(part) else part for part in nest]
+
+
+def _nest_done(machine, parts, state):
+    """Return what _behind() returns, from a State on."""
+    outputs = None
+    for part in parts:
+        if len(part) == 3:
+            state, told = _repeated(machine, part, state)
         else:
             letter, values = part
-            outputs, state = tick_done(machine, state, letter, values)
+            told, state = tick_done(machine, state, letter, values)
+        outputs = outputs if told is None else told
     return state, outputs
 
 
-def _repeated(machine, part, state, outputs):
-    """Return the State behind a nest that is repeated, and the outputs of the last tick."""
-    nest, times = part
-    reached = [(state, outputs)]
-    known = {_key_of(state): 0}
+def _repeated(machine, part, state):
+    """Return what _behind() returns, for a list of parts that is repeated."""
+    parts, times, known = part
+    reached = [(state, None)]
+    met = {_key_of(state): 0}
     while len(reached) <= times:
-        state, outputs = _nest_done(machine, nest, state, outputs)
-        reached.append((state, outputs))
         key = _key_of(state)
-        if key in known:
+        # The same States often come again when the nest around this one is repeated.
+        if key not in known:
+            known[key] = _nest_done(machine, parts, state)
+        reached.append(known[key])
+        state, _ = known[key]
+        key = _key_of(state)
+        if key in met:
             # From here on the same States come again, and behind them the same outputs.
-            again = known[key] + 1
+            again = met[key] + 1
             return reached[again + (times - again) % (len(reached) - again)]
-        known[key] = len(reached) - 1
+        met[key] = len(reached) - 1
     return reached[times]
 
 

@@ -40,7 +40,8 @@ def reached_nodes(machine):
     met = {found[0]: True}
     at = 0
     while at < len(found):
-        for node in next_nodes(machine, found[at]):
+        ahead = next_nodes(machine, found[at])
+        for node in ahead:
             if node not in met:
                 met[node] = True
                 found.append(node)

@@ -191,9 +191,10 @@ def _flooded(before, start, met):
     met[start] = True
     at = 0
     while at < len(found):
-        for node in before[found[at]]:
-            if node not in met:
-                met[node] = True
-                found.append(node)
+        node = found[at]
+        for earlier in before[node]:
+            if earlier not in met:
+                met[earlier] = True
+                found.append(earlier)
         at += 1
     return found

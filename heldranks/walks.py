@@ -80,6 +80,20 @@ def all_pairs(start, doubles, one, other, is_right):
     return list(came) if wrong is None else None
 
 
+def steps_met(starts, steps_at):
+    """Return a dict from some nodes, and all that they lead to, to the list of their steps, which a function tells."""
+    found = {}
+    waiting = list(starts)
+    at = 0
+    while at < len(waiting):
+        node = waiting[at]
+        if node not in found:
+            found[node] = steps_at(node)
+            waiting.extend([behind for _, behind in found[node]])
+        at += 1
+    return found
+
+
 def is_closed(pairs, doubles, one, other, is_right):
     """Tell whether outputs are right for all pairs and doubles, and the next pairs are in the list, too."""
     known = {pair: True for pair in pairs}

@@ -63,6 +63,13 @@ def blinking():
     return Machine(rows, inputs=1, outputs=1, first="a")
 
 
+def later(many):
+    """Return a machine that takes a value at each of so many ticks, and tells it at the last one of these."""
+    rows = {(f"m{k}", "go"): Row(f"m{(k + 1) % many}", [Place("x0") if k == 0 else Place("r0")],
+                                 [Place("r0") if k == many - 1 else End(BOTTOM)]) for k in range(many)}
+    return Machine(rows, inputs=1, outputs=1, first="m0", begin=[BOTTOM])
+
+
 def put_once():
     """Return a machine that keeps a value that is put in, and tells it just once."""
     rows = {("empty", "put"): Row("full", [Place("x0")], [End(BOTTOM), End(BOTTOM)]),
@@ -267,7 +274,7 @@ class WrongValues(Case):
     def cases(self, seed, many=40):
         rng = random.Random(seed)
         made = [record(), line(1), line(2), pile(2), ranked(2), best(2), two_inputs(), resetting(), once_more(), seldom(),
-                put_once(), recent(3, 1), recent(3, 2)] + [delay(k) for k in range(5)]
+                put_once(), later(4), later(9), recent(3, 1), recent(3, 2)] + [delay(k) for k in range(5)]
         found = []
         for machine in some_machines(seed, many) + made:
             found.append((machine, tuple(rng.choice([0, 1, 2, 5]) for _ in range(machine.outputs))))
@@ -296,7 +303,7 @@ class WrongValues(Case):
         self.equal([wrong_value(record(), (1,)), wrong_value(best(1), (2,)), wrong_value(resetting(), (1,))],
                    [NO_BOUND] * 3)
         self.equal([wrong_value(record(), (0,)), wrong_value(weights=(0, 0), machine=best(2))], [0, 0])
-        self.equal(wrong_value(delay(2), (HUGE,)), HUGE)
+        self.equal([wrong_value(delay(2), (HUGE,)), wrong_value(later(9), (4,))], [HUGE, 4])
         self.equal([wrong_value(machine, (3,)) for machine in (line(1), line(2), pile(3))], [3, 3, 3])
 
     def test_told_once_and_kept_before_for_any_time(self):

@@ -221,7 +221,8 @@ class OtherCertificates(Case):
             self.equal(is_certificate(claim, value), True)
         for value in (([high], [low]), ([low], [low]), ([], []), ([low], [high, high]), ([low], []), [[low], [high]],
                       ([low],), ([low], [high], [high]), ([high, low], [low, high]), ([low, low], [high, low]),
-                      ([low], [("go", (5,))]), ([("other", (BOTTOM,))], [high]), (low, high), None, (None, None)):
+                      ([low], [("go", (5,))]), ([("go", (5,))], [high]), ([low, 5], [high, high]),
+                      ("x", [high]), (None, [high]), ([low], None), ([("other", (BOTTOM,))], [high]), (low, high), None, (None, None)):
             self.equal(is_certificate(claim, value), False)
         two = Table([{("go", (end,)): ((end,), 0) for end in (BOTTOM, TOP)} | {
             ("stop", (end,)): ((BOTTOM,), 0) for end in (BOTTOM, TOP)}], inputs=1, outputs=1)
@@ -292,7 +293,8 @@ class OtherCertificates(Case):
         found = certificate_of(claim)
         before = list(found)
         found.clear()
-        self.equal(certificate_of(claim), before)
+        self.equal(certificate_of(claim=claim), before)
+        self.equal(is_claim(value=claim), True)
         history = [("put", (3,))]
         claim = ("needed", recent(2, 1), history, 3)
         certificate_of(claim)

@@ -304,6 +304,25 @@ class Rates(Case):
         self.assertEqual(met, {1, 2, 3, -1, -2, -3})
         self.assertGreater(many, 40)
 
+    def test_many_rounds_with_nearly_the_same_rate(self):
+        rng = random.Random(455)
+        bottoms = set()
+        for k in range(80):
+            # The letter a leads through all modes, and b back to the first one or to any other one.
+            rows = {}
+            for mode in range(12):
+                end = [End(rng.choice([BOTTOM, TOP]))]
+                rows[f"m{mode}", "a"] = Row(f"m{(mode + 1) % 12}", [], end)
+                rows[f"m{mode}", "b"] = Row(f"m{0 if k & 1 else rng.randrange(12)}", [], end)
+            machine = Machine(rows, inputs=0, outputs=1, first="m0")
+            prices = some_prices(rng, machine)
+            rate, paper = greatest_rate(machine, prices), rate_paper(machine, prices)
+            self.assertTrue(NodeGraph(machine).is_rate_paper(prices, rate, paper))
+            gained, ticks = round_worth(machine, prices, rate_round(machine, prices))
+            self.assertEqual(Fraction(gained, ticks), Fraction(*rate))
+            bottoms.add(rate[1])
+        self.assertGreater(len(bottoms), 5)
+
     def test_machines(self):
         machine = record()
         prices = Prices({"put": (1,), "reset": (0,)}, {"put": (-2,), "reset": (0,)})
@@ -378,7 +397,7 @@ class Rates(Case):
         for function in (greatest_worth, worth_history, worth_paper, endless_worth, greatest_rate, rate_round,
                          rate_paper):
             first = [function(*one), function(*other)]
-            self.equal([function(*one), function(*other)], first)
+            self.equal([function(machine=one[0], prices=one[1]), function(prices=other[1], machine=other[0])], first)
         found = rate_round(*one)
         for part in found:
             part.clear()
