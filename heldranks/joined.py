@@ -65,9 +65,9 @@ def _paired(one, other, joined_row, outputs):
 def _row_after(name, row, beyond, moved):
     """Return the Row that gives the outputs of a Row to another one, whose registers are moved."""
     given = {place: moved[place] for place in moved}
+    # The terms would grow with each machine that is joined after others, so short ones stand in their places.
     for number, term in enumerate(row.outputs):
-        given[INPUTS[number]] = term
-    # The terms would grow with each machine that is joined after others.
+        given[INPUTS[number]] = plain_term(term)
     kept = [plain_term(term) for term in _put_in(beyond.registers, given)]
     told = [plain_term(term) for term in _put_in(beyond.outputs, given)]
     return Row(name, [*row.registers, *kept], told)

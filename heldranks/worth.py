@@ -1,8 +1,8 @@
 """Worth: how much end histories can be worth at most, in all and for each tick."""
 
 from heldranks.checks import are_ticks
-from heldranks.errors import InvalidCount, InvalidPrices
 from heldranks.ends import moves
+from heldranks.errors import InvalidCount, InvalidPrices
 from heldranks.nodes import first_node, graph_by, is_node, node_behind, reached_nodes
 from heldranks.prices import are_integers, check_fitting, end_worth, tick_worth
 from heldranks.rounds import best_way, cycle_with_mean, gain_layers, gaining_cycle, greatest_mean, is_endless, ratio_of

@@ -126,7 +126,8 @@ class Names(unittest.TestCase):
     def test_bound_names(self):
         for name, tree in trees():
             for word in bound_names(tree):
-                if word in SPECIAL:
+                # Examples that were run before leave a value behind under the name `_`.
+                if word in SPECIAL or word == "_":
                     continue
                 self.assertFalse(word in BARRED or word.startswith("__"), (name, word))
                 self.assertFalse(hasattr(builtins, word), (name, word))
